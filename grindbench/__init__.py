@@ -1,0 +1,1 @@
+"""Grindbench: a lens grinder's bench in exact fractions."""
