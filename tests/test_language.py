@@ -126,6 +126,67 @@ class LanguageTest(unittest.TestCase):
             if isinstance(node, ast.Attribute) and node.attr in OF_VALUES:
                 self.assertIn(node.attr, METHODS, place(path, node))
 
+    def test_is_stands_beside_none_true_and_false(self):
+        for path, node in nodes():
+            if isinstance(node, ast.Compare) and isinstance(node.ops[0], (ast.Is, ast.IsNot)):
+                beside = [getattr(one, "value", "") for one in [node.left, node.comparators[0]]]
+                self.assertTrue(any(one is None or one is True or one is False for one in beside), place(path, node))
+
+    def test_no_parameter_or_local_is_called_like_a_class_or_an_import_of_its_file(self):
+        for path in files():
+            top = ast.parse(path.read_text(encoding="ascii"))
+            taken = {alias.name for row in top.body if isinstance(row, ast.ImportFrom) for alias in row.names}
+            taken |= {row.name for row in top.body if isinstance(row, ast.ClassDef)}
+            for node in ast.walk(top):
+                if isinstance(node, (ast.Name, ast.arg)):
+                    self.assertFalse(taken.intersection(bound_names(node)), place(path, node))
+
+    def test_a_name_is_bound_once_at_a_files_top(self):
+        for path in files():
+            bound = []
+            for row in ast.parse(path.read_text(encoding="ascii")).body:
+                if isinstance(row, ast.ImportFrom):
+                    bound += [alias.asname or alias.name for alias in row.names]
+                elif isinstance(row, ast.Assign):
+                    bound += bound_names(row.targets[0])
+                else:
+                    bound += bound_names(row)
+            self.assertEqual(len(bound), len(set(bound)), path)
+
+    def test_no_name_is_a_method_here_and_a_value_there(self):
+        methods = set()
+        values = set()
+        for path, node in nodes():
+            if isinstance(node, ast.ClassDef):
+                methods |= {row.name for row in node.body if isinstance(row, ast.FunctionDef)}
+            if isinstance(node, ast.Attribute) and isinstance(node.ctx, ast.Store):
+                values.add(node.attr)
+        self.assertEqual(methods & values, set())
+
+    def test_no_two_files_draw_from_one_another(self):
+        drawn = {}
+        for path in files():
+            drawn[f"grindbench.{path.stem}"] = {
+                node.module for node in ast.walk(ast.parse(path.read_text(encoding="ascii")))
+                if isinstance(node, ast.ImportFrom)
+            }
+        while drawn:
+            free = [name for name in drawn if not drawn[name].intersection(drawn)]
+            self.assertTrue(free, sorted(drawn))
+            for name in free:
+                del drawn[name]
+
+    def test_names_are_drawn_from_the_file_that_defines_them(self):
+        for path, node in nodes():
+            if isinstance(node, ast.ImportFrom):
+                source = PACKAGE / (node.module.partition(".")[2] + ".py")
+                defined = [
+                    name for row in ast.parse(source.read_text(encoding="ascii")).body
+                    for name in bound_names(row.targets[0] if isinstance(row, ast.Assign) else row)
+                ]
+                for alias in node.names:
+                    self.assertIn(alias.name, defined, place(path, node))
+
 
 if __name__ == "__main__":
     unittest.main()
