@@ -97,3 +97,52 @@ def walked(bench, ray):
 
 def without_stops(bench):
     return [piece for piece in bench if piece[0] != "stop"]
+
+
+def table_by_walks(bench):
+    """A bench's table found by walking the rays (1, 0) and (0, 1), as if no stop ever stopped."""
+    (high, rise) = walked(without_stops(bench), ((1, 1), (0, 1)))[0][-1]
+    (lifted, slant) = walked(without_stops(bench), ((0, 1), (1, 1)))[0][-1]
+    return (high, lifted, rise, slant)
+
+
+def table_told(a, b, c, d):
+    """A table of numbers of Python's own."""
+    return (told(a), told(b), told(c), told(d))
+
+
+def some_tables(seed, how_many, most_pieces=6):
+    """Tables of benches, and ones with nothing but a and d, or with b or c of 0, among them."""
+    tables = [table_by_walks(bench) for bench in some_benches(seed, how_many, most_pieces)]
+    for a in [Fraction(1), Fraction(-1), Fraction(2), Fraction(-3, 5)]:
+        tables += [table_told(a, 0, 0, 1 / a), table_told(a, 7, 0, 1 / a), table_told(a, 0, Fraction(-1, 2), 1 / a)]
+    return tables + [table_told(0, 1, -1, 0), table_told(0, Fraction(-1, 3), 3, 5), table_told(5, 3, Fraction(-1, 3), 0)]
+
+
+def no_tables():
+    """Things of many kinds that are no tables."""
+    nought = (0, 1)
+    one = (1, 1)
+    tables = [
+        (one, nought, nought, nought), (nought, nought, nought, nought), (one, one, one, one), (nought, one, one, nought),
+        (one, nought, nought, (-1, 1)), ((-1, 1), nought, nought, one), ((2, 1), nought, nought, (2, 1)),
+        ((2, 1), one, one, (2, 1)), (one, (1, 2), (1, 2), one), ((1, 2), nought, nought, (1, 2)),
+        (one, nought, nought, (10 ** 40 + 1, 10 ** 40)),
+        (), (one,), (one, nought, nought), (one, nought, one), (one, nought, nought, one, nought),
+        (one, nought, nought, one, one), ((one, nought), (nought, one)), ((one, nought, nought, one),), one, nought,
+        (1, 0, 0, 1), (2, 3, 1, 2), [], [one, nought, nought, one], [[one, nought], [nought, one]], {},
+        {0: one, 1: nought, 2: nought, 3: one}, {one: nought}, {one, nought}, set(), "", "abcd", "1 0 0 1", None, 0, 1, 4,
+        True, False, 1.5, 1j, b"1001", range(4), object(), tuple, len, ..., Fraction(1), ("gap", one),
+        [("gap", one)], ("gap", one, one, one), (None, None, None, None), (True, False, False, True),
+        # These have the right sum all the same.
+        ((2, 2), nought, nought, one), (one, (0, 2), nought, one), ((-1, -1), nought, nought, one),
+        (one, nought, nought, (True, 1)), (one, (False, 1), nought, one), (one, nought, nought, (1, True)),
+        ([1, 1], nought, nought, one), (one, nought, [0, 1], one), (1, nought, nought, 1), (one, 0, 0, one),
+        (Fraction(1), Fraction(0), Fraction(0), Fraction(1)), ((1.0, 1), nought, nought, one),
+        ((1, 1, 1), nought, nought, one), ((1,), nought, nought, one), (one, nought, nought, "1"),
+        (one, (3, 1), nought, (4, 4)), (one, (6, 2), nought, one), (one, (-3, -1), nought, one),
+    ]
+    for part in no_ratios():
+        tables += [(part, nought, nought, one), (one, part, nought, one), (one, nought, part, one)]
+        tables += [(one, nought, nought, part), (part, part, part, part)]
+    return tables
