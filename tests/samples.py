@@ -20,6 +20,11 @@ def meant(one):
     return Fraction(one[0], one[1])
 
 
+def stop_of(low, high):
+    """A stop's tuple of numbers of Python's own."""
+    return ("stop", told(low), told(high))
+
+
 def no_ratios():
     """Things of many kinds that are no fractions; made anew, for those that can be changed."""
     return [
@@ -146,3 +151,99 @@ def no_tables():
         tables += [(part, nought, nought, one), (one, part, nought, one), (one, nought, part, one)]
         tables += [(one, nought, nought, part), (part, part, part, part)]
     return tables
+
+
+def stop_heights(bench, ray):
+    """The number of each stop, and the height there of a ray that none ahead stopped, walked piece by piece."""
+    heights = []
+    for number, piece in enumerate(bench):
+        if piece[0] == "stop":
+            heights.append((number, walked(without_stops(bench[:number]), ray)[0][-1][0]))
+    return heights
+
+
+def no_stretches():
+    """Pairs of which the first is above the last, or of which one is no fraction."""
+    far = 10 ** 40
+    pairs = [((1, 1), (0, 1)), ((1, 2), (1, 3)), ((-1, 3), (-1, 2)), ((far, 1), (far - 1, 1)), ((0, 1), (-1, 9))]
+    for part in no_ratios():
+        pairs += [(part, (5, 1)), ((-5, 1), part), (part, part)]
+    return pairs
+
+
+def no_boxes():
+    """Things of many kinds that are no boxes."""
+    low, high = (-1, 1), (1, 1)
+    boxes = [
+        (), (low,), (low, high), (low, high, low), (low, high, low, high, high), ((low, high), (low, high)),
+        (-1, 1, -1, 1), [], [low, high, low, high], [low, high, low], {}, {0: low, 1: high, 2: low, 3: high}, {low: high}, {low, high},
+        set(), "", "abcd", "-1 1 -1 1", None, 0, 4, True, False, 1.5, 1j, b"1234", range(4), object(), tuple, len, ...,
+        Fraction(1), ("stop", low, high, high), ("box", low, high, low), low,
+    ]
+    for first, last in no_stretches():
+        boxes += [(first, last, low, high), (low, high, first, last), (first, last, first, last)]
+    return boxes
+
+
+def some_stretch(source, most=5):
+    """Two fractions in order, alike now and then."""
+    ends = sorted([meant(some_ratio(source, most)), meant(some_ratio(source, most))])
+    if source.randint(0, 7) == 0:
+        ends[1] = ends[0]
+    return (told(ends[0]), told(ends[1]))
+
+
+def some_box(source, most=5):
+    return some_stretch(source, most) + some_stretch(source, most)
+
+
+def turned_left(start, end, point):
+    """Above 0 where a point lies to the left of the way from start to end, in numbers of Python's own."""
+    return (end[0] - start[0]) * (point[1] - start[1]) - (end[1] - start[1]) * (point[0] - start[0])
+
+
+def hull_of(points):
+    """The corners round some points against the clock from the least on, in numbers of Python's own."""
+    points = sorted(set(points))
+    if len(points) < 2:
+        return points
+    halves = []
+    for half in [points, points[::-1]]:
+        chain = []
+        for point in half:
+            while len(chain) > 1 and turned_left(chain[-2], chain[-1], point) <= 0:
+                chain.pop()
+            chain.append(point)
+        halves += chain[:-1]
+    return halves
+
+
+def lines_of(bench, box):
+    """The lines x y + z u = w on which an edge of the field of a bench in a box can lie."""
+    low, high, first, last = [meant(part) for part in box]
+    lines = [(1, 0, low), (1, 0, high), (0, 1, first), (0, 1, last)]
+    by_height = stop_heights(bench, ((1, 1), (0, 1)))
+    by_slant = stop_heights(bench, ((0, 1), (1, 1)))
+    for (number, x), (same, z) in zip(by_height, by_slant):
+        lines += [(meant(x), meant(z), meant(end)) for end in bench[number][1:]]
+    return lines
+
+
+def is_in_box(box, ray):
+    low, high, first, last = [meant(part) for part in box]
+    return low <= meant(ray[0]) <= high and first <= meant(ray[1]) <= last
+
+
+def field_by_lines(bench, box):
+    """A field's corners found in another way: of all crossings of two lines, those that are let by, and the hull."""
+    lines = lines_of(bench, box)
+    points = []
+    for number, (x, z, w) in enumerate(lines):
+        for other_x, other_z, other_w in lines[:number]:
+            across = x * other_z - z * other_x
+            if across != 0:
+                point = ((w * other_z - z * other_w) / across, (x * other_w - w * other_x) / across)
+                ray = (told(point[0]), told(point[1]))
+                if is_in_box(box, ray) and walked(bench, ray)[1] is None:
+                    points.append(point)
+    return [(told(height), told(slant)) for height, slant in hull_of(points)]
