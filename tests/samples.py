@@ -3,6 +3,8 @@
 import random
 from fractions import Fraction
 
+from grindbench.errors import NoBench
+
 HALF_FORMS = [(0, 1), (1, 1), (-1, 1), (1, 2), (-1, 2), (3, 2), (-7, 3), (5, 1), (22, 7), (-1, 4)]
 LONG_FORMS = [(10 ** 15 - 1, 10 ** 15 - 2), (-(10 ** 40) - 1, 3), (1, 10 ** 40)]
 RATIOS = HALF_FORMS + LONG_FORMS
@@ -25,6 +27,11 @@ def stop_of(low, high):
     return ("stop", told(low), told(high))
 
 
+def lamp_of(height, place):
+    """A lamp of numbers of Python's own."""
+    return (told(height), told(place))
+
+
 def no_ratios():
     """Things of many kinds that are no fractions; made anew, for those that can be changed."""
     return [
@@ -34,6 +41,17 @@ def no_ratios():
         ("1", 2), (1, "2"), ("1", "2"), (None, 1), (1, None), (1.0, 2), (1, 2.0), ([1], 2), (1, [2]), ((1, 2), 1),
         ((1, 2), (1, 3)), [], [1, 2], [0, 1], {}, {1: 2}, {0: 1, 1: 2}, set(), {1, 2}, b"12", range(1, 3), object(),
         int, len, ...,
+    ]
+
+
+def no_names():
+    """Things of many kinds that are no names."""
+    return [
+        "", "abcdefghi", "abcdefghijklmnop", "A", "Ab", "aB", "ABC", "a1", "1", "a b", " a", "a ", " ", "a-b", "a_b",
+        "_",
+        ".", "a.", "a\n", "\n", "a\t", "`", "{", "a{", "a`", "@", "[", "'a'", "\u00e4", "\u00df", "a\u0131", "\u0430",
+        "\u00aa", "\uff41",
+        None, 0, 1, True, 1.5, b"a", b"", [], ["a"], ("a",), {}, {"a"}, object(), str, len, ...,
     ]
 
 
@@ -61,6 +79,23 @@ def no_pieces():
         (["gap"], one), ({}, one), (one, "gap"), (one, one), one, ((1, 2), (1, 2), (1, 2)), ("gap", "glass"),
         ("gap", 1, 2), ("gap", one[0]), object(), tuple, len, ..., b"gap 1", range(2), Fraction(1, 2),
     ]
+
+
+def no_benches():
+    """Things of many kinds that are no benches, each with the at of its refusal."""
+    gap = ("gap", (1, 1))
+    things = [(thing, None) for thing in no_lists() + [[gap] * 61, [gap] * 60 + [None], [None] * 61]]
+    for thing in no_pieces():
+        things += [([thing, gap, None], 0), ([gap, thing, None], 1), ([gap, gap, thing], 2), ([gap, thing, thing], 1)]
+    return things
+
+
+def refuses_no_benches(case, ask):
+    """Holds in a test case that asking of what is no bench is refused with NoBench, and its at."""
+    for thing, at in no_benches():
+        with case.assertRaises(NoBench, msg=repr(thing)) as taken:
+            ask(thing)
+        case.assertEqual(taken.exception.at, at)
 
 
 def some_ratio(source, most=5):
@@ -104,6 +139,11 @@ def without_stops(bench):
     return [piece for piece in bench if piece[0] != "stop"]
 
 
+def height_on(bench, lamp, slant, t):
+    """The height of a lamp's light on a screen t behind a bench, walked as if no stop stopped any."""
+    return meant(walked([("gap", lamp[1])] + without_stops(bench) + [("gap", t)], (lamp[0], told(slant)))[0][-1][0])
+
+
 def table_by_walks(bench):
     """A bench's table found by walking the rays (1, 0) and (0, 1), as if no stop ever stopped."""
     (high, rise) = walked(without_stops(bench), ((1, 1), (0, 1)))[0][-1]
@@ -129,14 +169,16 @@ def no_tables():
     nought = (0, 1)
     one = (1, 1)
     tables = [
-        (one, nought, nought, nought), (nought, nought, nought, nought), (one, one, one, one), (nought, one, one, nought),
+        (one, nought, nought, nought), (nought, nought, nought, nought), (one, one, one, one),
+        (nought, one, one, nought),
         (one, nought, nought, (-1, 1)), ((-1, 1), nought, nought, one), ((2, 1), nought, nought, (2, 1)),
         ((2, 1), one, one, (2, 1)), (one, (1, 2), (1, 2), one), ((1, 2), nought, nought, (1, 2)),
         (one, nought, nought, (10 ** 40 + 1, 10 ** 40)),
         (), (one,), (one, nought, nought), (one, nought, one), (one, nought, nought, one, nought),
         (one, nought, nought, one, one), ((one, nought), (nought, one)), ((one, nought, nought, one),), one, nought,
         (1, 0, 0, 1), (2, 3, 1, 2), [], [one, nought, nought, one], [[one, nought], [nought, one]], {},
-        {0: one, 1: nought, 2: nought, 3: one}, {one: nought}, {one, nought}, set(), "", "abcd", "1 0 0 1", None, 0, 1, 4,
+        {0: one, 1: nought, 2: nought, 3: one}, {one: nought}, {one, nought}, set(), "", "abcd", "1 0 0 1", None, 0,
+        1, 4,
         True, False, 1.5, 1j, b"1001", range(4), object(), tuple, len, ..., Fraction(1), ("gap", one),
         [("gap", one)], ("gap", one, one, one), (None, None, None, None), (True, False, False, True),
         # These have the right sum all the same.
@@ -176,7 +218,8 @@ def no_boxes():
     low, high = (-1, 1), (1, 1)
     boxes = [
         (), (low,), (low, high), (low, high, low), (low, high, low, high, high), ((low, high), (low, high)),
-        (-1, 1, -1, 1), [], [low, high, low, high], [low, high, low], {}, {0: low, 1: high, 2: low, 3: high}, {low: high}, {low, high},
+        (-1, 1, -1, 1), [], [low, high, low, high], [low, high, low], {}, {0: low, 1: high, 2: low, 3: high},
+        {low: high}, {low, high},
         set(), "", "abcd", "-1 1 -1 1", None, 0, 4, True, False, 1.5, 1j, b"1234", range(4), object(), tuple, len, ...,
         Fraction(1), ("stop", low, high, high), ("box", low, high, low), low,
     ]

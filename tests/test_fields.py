@@ -11,7 +11,7 @@ from grindbench.ratios import is_ratio
 from grindbench.walks import goes_by
 
 from samples import (
-    RAYS, field_by_lines, is_in_box, meant, no_boxes, no_lists, no_pieces, some_benches, some_box, stop_heights, stop_of,
+    RAYS, field_by_lines, is_in_box, meant, no_boxes, refuses_no_benches, some_benches, some_box, stop_heights, stop_of,
     told, turned_left, walked,
 )
 
@@ -379,16 +379,8 @@ class RefusedTest(unittest.TestCase):
             self.assertTrue(field_of([], box))
 
     def test_a_bench_that_is_none_ahead_of_all_else(self):
-        for thing in no_lists() + [[GAP] * 61]:
-            for box in [BOX, None, (1, 2), ((1, 1), (0, 1), (0, 1), (1, 1))]:
-                with self.assertRaises(NoBench) as taken:
-                    field_of(thing, box)
-                self.assertIsNone(taken.exception.at)
-        for thing in no_pieces():
-            for box in [BOX, None]:
-                with self.assertRaises(NoBench) as taken:
-                    field_of([GAP, thing, None], box)
-                self.assertEqual(taken.exception.at, 1)
+        for box in [BOX, None, (1, 2), ((1, 1), (0, 1), (0, 1), (1, 1))]:
+            refuses_no_benches(self, lambda bench: field_of(bench, box))
 
 
 class NothingHangsTest(unittest.TestCase):

@@ -13,17 +13,13 @@ from grindbench.tables import table_of
 from grindbench.walks import goes_by
 
 from samples import (
-    HALF_FORMS, meant, no_lists, no_pieces, no_stretches, some_benches, some_ratio, some_stretch, stop_heights, stop_of,
-    told, walked, without_stops,
+    HALF_FORMS, height_on, lamp_of, meant, no_stretches, refuses_no_benches, some_benches, some_ratio, some_stretch,
+    stop_heights, stop_of, told, walked,
 )
 
 GAP = ("gap", (1, 1))
 LITTLE = Fraction(1, 10 ** 30)
 LAMP = ((0, 1), (2, 1))
-
-
-def lamp_of(height, place):
-    return (told(height), told(place))
 
 
 def shines(bench, lamp, slant):
@@ -42,11 +38,6 @@ def slants_tried(bench, lamp, first, last):
             tried += [(meant(edge) - meant(start)) / (meant(end) - meant(start)) for edge in whole[number][1:]]
     light = [slant for slant in tried if meant(first) <= slant <= meant(last) and shines(bench, lamp, slant)]
     return (told(min(light)), told(max(light))) if light else None
-
-
-def height_on(bench, lamp, slant, t):
-    """The height on a screen, walked as if no stop stopped any."""
-    return meant(walked([("gap", lamp[1])] + without_stops(bench) + [("gap", t)], (lamp[0], told(slant)))[0][-1][0])
 
 
 def drawn(seed, how_many, most_pieces=7):
@@ -228,14 +219,7 @@ class RefusedTest(unittest.TestCase):
             lambda bench: blur_of(bench, None, None, None),
         ]
         for ask in asked:
-            for thing in no_lists() + [[GAP] * 61, [None] * 61]:
-                with self.assertRaises(NoBench) as taken:
-                    ask(thing)
-                self.assertIsNone(taken.exception.at)
-            for thing in no_pieces():
-                with self.assertRaises(NoBench) as taken:
-                    ask([GAP, thing, None])
-                self.assertEqual(taken.exception.at, 1)
+            refuses_no_benches(self, ask)
 
 
 class NothingHangsTest(unittest.TestCase):

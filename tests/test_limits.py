@@ -7,7 +7,7 @@ from grindbench.errors import NoBench
 from grindbench.limits import limits_of
 from grindbench.ratios import is_ratio
 
-from samples import RAYS, meant, no_lists, no_pieces, some_benches, stop_heights, told
+from samples import RAYS, meant, refuses_no_benches, some_benches, stop_heights, told
 
 GAP = ("gap", (1, 1))
 STOP = ("stop", (-1, 1), (1, 1))
@@ -74,21 +74,8 @@ class LimitsTest(unittest.TestCase):
 
 
 class RefusedTest(unittest.TestCase):
-    def refused(self, thing, at):
-        with self.assertRaises(NoBench, msg=repr(thing)) as taken:
-            limits_of(thing)
-        self.assertEqual(taken.exception.at, at)
-
-    def test_what_is_no_list_or_too_long(self):
-        for thing in no_lists() + [[STOP] * 61, [STOP] * 60 + [None], [None] * 61]:
-            self.refused(thing, None)
-
-    def test_what_is_no_piece(self):
-        for thing in no_pieces():
-            self.refused([thing, STOP, GAP], 0)
-            self.refused([STOP, thing, GAP], 1)
-            self.refused([STOP, GAP, thing], 2)
-            self.refused([STOP, thing, thing], 1)
+    def test_what_is_no_bench(self):
+        refuses_no_benches(self, limits_of)
 
 
 class NothingHangsTest(unittest.TestCase):
